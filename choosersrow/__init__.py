@@ -1,0 +1,1 @@
+"""Choosersrow: choosing in turn with aims of any kind."""

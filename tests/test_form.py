@@ -1,0 +1,170 @@
+"""The form of the code: the interface and the rules of ../shared/LANGUAGE.md that can be seen in a file by itself."""
+
+import ast
+import unittest
+from pathlib import Path
+
+PACKAGE = Path(__file__).resolve().parent.parent / "choosersrow"
+BUILTINS = set("""len range enumerate zip min max sum abs sorted reversed int str bool bytes list tuple dict set
+    isinstance ord repr any all divmod pow iter next super ValueError KeyError TypeError NotImplemented""".split())
+METHODS = set("""append clear copy count endswith extend find get index insert items join keys pop remove replace
+    reverse setdefault sort split startswith strip update values bit_length""".split())
+BARRED = set("""register mro elements open input law version_info type typing enum compile dir eval exec exit gc
+    globals help id license locals os quit vars sys format map filter hash round object property""".split())
+DECORATORS = ("property", "staticmethod", "classmethod")
+STATEMENTS = (ast.Import, ast.Global, ast.AsyncFunctionDef, ast.AsyncFor, ast.AsyncWith, ast.Await, ast.Div)
+
+# The file, the function or the class with its method, and the parameters.
+INTERFACE = {
+    "terms": {"write_term": "term", "read_term": "text"},
+    "walks": {"count_choices": "widths", "choice_at": "widths, index", "choice_index": "widths, choice",
+              "all_choices": "widths"},
+    "aims": {"Aim.__init__": "self, term, options, outcomes", "Aim.good": "self, context", "Aim.__or__": "self, other",
+             "Aim.__and__": "self, other", "Aim.__sub__": "self, other", "Aim.__invert__": "self",
+             "Aim.text": "self", "Aim.read": "text"},
+    "choosers": {"Chooser.__init__": "self, options, outcomes, row", "Chooser.__call__": "self, context",
+                 "Chooser.__mul__": "self, other", "Chooser.__pow__": "self, other", "Chooser.text": "self",
+                 "Chooser.read": "text", "Chooser.constant": "options, outcomes, option", "Chooser.first_good": "aim"},
+}
+STATIC = ["Aim.read", "Chooser.read", "Chooser.constant", "Chooser.first_good"]
+
+
+def files():
+    return sorted(PACKAGE.glob("*.py"))
+
+
+def parsed(path):
+    return ast.parse(path.read_text("ascii"))
+
+
+def definitions(tree):
+    """Return a dict of the functions and methods that a file defines."""
+    found = {}
+    for node in tree.body:
+        if isinstance(node, ast.FunctionDef):
+            found[node.name] = node
+        if isinstance(node, ast.ClassDef):
+            found[node.name] = node
+            for part in node.body:
+                if isinstance(part, ast.FunctionDef):
+                    found[f"{node.name}.{part.name}"] = part
+    return found
+
+
+def top_names(tree):
+    """Return the names that a file binds at module level itself, in order."""
+    names = []
+    for node in tree.body:
+        if isinstance(node, (ast.FunctionDef, ast.ClassDef)):
+            names.append(node.name)
+        if isinstance(node, ast.Assign):
+            names.extend(target.id for target in node.targets)
+    return names
+
+
+class TestInterface(unittest.TestCase):
+    def test_defined_where_listed(self):
+        for name, parts in INTERFACE.items():
+            found = definitions(parsed(PACKAGE / f"{name}.py"))
+            for part, parameters in parts.items():
+                self.assertIn(part, found, name)
+                self.assertEqual(ast.unparse(found[part].args), parameters, part)
+
+    def test_static_methods(self):
+        for name in INTERFACE:
+            for part, node in definitions(parsed(PACKAGE / f"{name}.py")).items():
+                if isinstance(node, ast.FunctionDef):
+                    marks = [ast.unparse(mark) for mark in node.decorator_list]
+                    self.assertEqual("staticmethod" in marks, part in STATIC, part)
+
+
+class TestFiles(unittest.TestCase):
+    def test_folder(self):
+        for path in PACKAGE.iterdir():
+            if path.name != "__pycache__":
+                self.assertRegex(path.name, r"\A(__init__|[a-z]+)\.py\Z")
+
+    def test_characters_and_lengths(self):
+        for path in files():
+            lines = path.read_bytes().split(b"\n")
+            self.assertLessEqual(len(lines), 399, path.name)
+            for line in lines:
+                self.assertLessEqual(len(line), 120, path.name)
+                self.assertTrue(all(32 <= sign <= 126 for sign in line), line)
+
+    def test_functions(self):
+        for path in files():
+            for node in ast.walk(parsed(path)):
+                if isinstance(node, ast.FunctionDef):
+                    self.assertLessEqual(node.end_lineno - node.lineno + 1, 40, (path.name, node.name))
+                    for mark in node.decorator_list:
+                        self.assertIn(ast.unparse(mark).split(".")[-1], DECORATORS + ("setter",))
+
+    def test_module_level(self):
+        for path in files():
+            tree = parsed(path)
+            for node in tree.body:
+                plain = isinstance(node, (ast.ImportFrom, ast.FunctionDef, ast.ClassDef, ast.Assign))
+                self.assertTrue(plain or ast.get_docstring(tree) and node is tree.body[0], (path.name, node.lineno))
+            names = top_names(tree)
+            self.assertEqual(len(names), len(set(names)), path.name)
+
+    def test_imports(self):
+        uses = {}
+        for path in files():
+            uses[path.stem] = []
+            for node in ast.walk(parsed(path)):
+                if isinstance(node, ast.ImportFrom):
+                    self.assertRegex(node.module, r"\Achoosersrow\.[a-z]+\Z")
+                    home = node.module.split(".")[1]
+                    uses[path.stem].append(home)
+                    for name in node.names:
+                        self.assertIsNone(name.asname)
+                        self.assertIn(name.name, top_names(parsed(PACKAGE / f"{home}.py")), path.name)
+        done = []
+        while len(done) < len(uses):
+            ready = [name for name in uses if name not in done and all(home in done for home in uses[name])]
+            self.assertTrue(ready, "files import each other")
+            done.extend(ready)
+
+    def test_imports_are_used(self):
+        for path in files():
+            tree = parsed(path)
+            used = {node.id for node in ast.walk(tree) if isinstance(node, ast.Name)}
+            for node in tree.body:
+                if isinstance(node, ast.ImportFrom):
+                    for name in node.names:
+                        self.assertIn(name.name, used, path.name)
+
+    def test_names(self):
+        for path in files():
+            tree = parsed(path)
+            bound = {node.arg for node in ast.walk(tree) if isinstance(node, ast.arg)}
+            bound |= {node.id for node in ast.walk(tree) if isinstance(node, ast.Name)
+                      and isinstance(node.ctx, ast.Store)}
+            bound |= {node.name for node in ast.walk(tree) if isinstance(node, ast.ExceptHandler)}
+            bound |= set(top_names(tree))
+            self.assertFalse(bound & (BUILTINS | BARRED), path.name)
+            imported = {name.name for node in tree.body if isinstance(node, ast.ImportFrom) for name in node.names}
+            self.assertFalse(bound & imported, path.name)
+            for node in ast.walk(tree):
+                self.assertNotIsInstance(node, STATEMENTS, (path.name, getattr(node, "lineno", 0)))
+                if isinstance(node, ast.Name) and isinstance(node.ctx, ast.Load):
+                    known = bound | imported | BUILTINS | set(DECORATORS)
+                    self.assertIn(node.id, known, (path.name, node.lineno))
+
+    def test_methods(self):
+        trees = [parsed(path) for path in files()]
+        own = {name.split(".")[1] for tree in trees for name in definitions(tree) if "." in name}
+        for tree in trees:
+            for node in ast.walk(tree):
+                if isinstance(node, ast.Call) and isinstance(node.func, ast.Attribute):
+                    self.assertIn(node.func.attr, METHODS | own, node.lineno)
+
+    def test_strings_and_powers(self):
+        for path in files():
+            for node in ast.walk(parsed(path)):
+                if isinstance(node, ast.Constant) and isinstance(node.value, str):
+                    self.assertNotIn("%", node.value, path.name)
+                if isinstance(node, ast.BinOp):
+                    self.assertNotIsInstance(node.op, ast.Pow, path.name)
