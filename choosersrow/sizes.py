@@ -56,6 +56,11 @@ def context_index(context, outcomes):
     return choice_index((outcomes,) * len(context), context)
 
 
+def options_with(context, outcomes):
+    """Return the options of a context that have one of the outcomes, in ascending order."""
+    return tuple([option for option, outcome in enumerate(context) if outcome in outcomes])
+
+
 def segments_of(sizes, entries):
     """Return the segments of a tuple: as many of its entries, one behind another, as each size says."""
     segments = []

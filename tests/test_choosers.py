@@ -9,7 +9,7 @@ from choosersrow.errors import InvalidChooser, InvalidContext, OutOfRange, SizeM
 from tests.helpers import SMALL_SIZES, Case, contexts
 from tests.oracles import drawn_term, good_options
 
-LARGE_SIZES = [(0, 2), (9, 1), (9, 2), (6, 3), (5, 4), (64, 1), (2, 0), (2, 5), (-1, 2), (2, -1), (0, 0), (9, 5)]
+LARGE_SIZES = [(0, 2), (9, 1), (9, 2), (6, 3), (5, 4), (64, 1), (64, 4), (2, 0), (2, 5), (-1, 2), (2, -1), (0, 0), (9, 5)]
 
 
 def drawn_chooser(source, options, outcomes):
@@ -55,6 +55,7 @@ class TestCreating(Case):
         self.wrong(2, 2, (0, 1, 0), 3)
         self.wrong(2, 2, (0, 1, 0, 0, 0), 4)
         self.wrong(2, 2, (0, 1, 0, 0, 9, 9), 4)
+        self.wrong(2, 2, (0, 1, 0, 0, 0, 9), 4)
         for options, outcomes in SMALL_SIZES:
             many = outcomes ** options
             self.wrong(options, outcomes, (0,) * (many - 1), many - 1)

@@ -25,6 +25,52 @@ EXAMPLES = '''
 >>> from choosersrow.choosers import Chooser
 >>> Chooser.first_good(Aim(("best", (0, 1)), 2, 2)).row
 (0, 1, 0, 0)
+
+>>> from choosersrow.games import Game
+>>> game = Game.read("(game 2 (node 0 (any) (end 1) (node 1 (most) (end 0) (end 1) (end 1))))")
+>>> game.ends
+(1, 0, 1, 1)
+>>> [node.way for node in game]
+[(), (1,)]
+>>> game.nodes[0].children
+(('leaf', 0), ('node', 1))
+>>> game.plans
+6
+
+>>> from choosersrow.aimtables import aim_table, unmet_context
+>>> aim_table(Aim(("best", (0, 1)), 2, 2))
+((0, 1), (1,), (0,), (0, 1))
+>>> unmet_context(Aim(("fixed",), 2, 2))
+(1, 0)
+
+>>> from choosersrow.orders import opposite_ranks, order_of
+>>> opposite_ranks((5, 2, 5, 9))
+(1, 2, 1, 0)
+>>> order_of(Aim(("second", (4, 9)), 2, 2))
+(1, 0)
+
+>>> from choosersrow.choosing import meeting_choosers
+>>> aim = Aim(("best", (0, 1)), 2, 2)
+>>> [chooser.row for chooser in meeting_choosers(aim, start=2)]
+[(1, 1, 0, 0), (1, 1, 0, 1)]
+
+>>> from choosersrow.turns import faced_context, put_behind, split_option
+>>> first = Chooser(2, 2, (0, 1, 0, 0))
+>>> single = Chooser(1, 2, (0, 0))
+>>> faced_context(first, (first, single), (0, 1, 0))
+(1, 0)
+>>> put_behind(first, (first, single))((0, 1, 0))
+1
+>>> [split_option((2, 1), option) for option in (0, 1, 2)]
+[(0, 0), (0, 1), (1, 0)]
+
+>>> from choosersrow.turnaims import aim_behind, choosers_to
+>>> best = Aim(("best", (0, 1)), 2, 2)
+>>> single = Aim(("any",), 1, 2)
+>>> aim_behind(best, (best, single)).good((0, 1, 1))
+(1, 2)
+>>> choosers_to(best, (best, single), (1, 1, 1), 1)[1][0].row
+(0, 1, 0, 1)
 '''
 
 

@@ -1,16 +1,19 @@
 """The form of the code: the interface and the rules of ../shared/LANGUAGE.md that can be seen in a file by itself."""
 
 import ast
+import builtins
 import unittest
 from pathlib import Path
 
 PACKAGE = Path(__file__).resolve().parent.parent / "choosersrow"
+# The builtins that may be used.
 BUILTINS = set("""len range enumerate zip min max sum abs sorted reversed int str bool bytes list tuple dict set
     isinstance ord repr any all divmod pow iter next super ValueError KeyError TypeError NotImplemented""".split())
 METHODS = set("""append clear copy count endswith extend find get index insert items join keys pop remove replace
     reverse setdefault sort split startswith strip update values bit_length""".split())
-BARRED = set("""register mro elements open input law version_info type typing enum compile dir eval exec exit gc
-    globals help id license locals os quit vars sys format map filter hash round object property""".split())
+# The names that nothing may be given.
+BARRED = set(dir(builtins)) | set("""register mro elements law version_info typing enum gc os sys law importlib
+    attrgetter methodcaller""".split())
 DECORATORS = ("property", "staticmethod", "classmethod")
 STATEMENTS = (ast.Import, ast.Global, ast.AsyncFunctionDef, ast.AsyncFor, ast.AsyncWith, ast.Await, ast.Div)
 
@@ -25,8 +28,22 @@ INTERFACE = {
     "choosers": {"Chooser.__init__": "self, options, outcomes, row", "Chooser.__call__": "self, context",
                  "Chooser.__mul__": "self, other", "Chooser.__pow__": "self, other", "Chooser.text": "self",
                  "Chooser.read": "text", "Chooser.constant": "options, outcomes, option", "Chooser.first_good": "aim"},
+    "games": {"Game.__init__": "self, outcomes, tree", "Game.plans": "self", "Game.__iter__": "self",
+              "Game.with_ends": "self, ends", "Game.part": "self, way", "Game.text": "self", "Game.read": "text"},
+    "aimtables": {"aim_table": "aim", "table_aim": "aim", "unmet_context": "aim", "parting_context": "first, second",
+                  "is_within": "first, second", "is_fair": "aim", "fair_hull": "aim", "fair_core": "aim"},
+    "orders": {"dense_ranks": "ranks", "opposite_ranks": "ranks", "dense_orders": "outcomes", "order_of": "aim"},
+    "choosing": {"meets_aim": "chooser, aim", "missed_context": "chooser, aim", "count_meeting": "aim",
+                 "meeting_at": "aim, index", "meeting_index": "aim, chooser",
+                 "meeting_choosers": "aim, *, start=0, most=64", "made_aim": "chooser", "plain_chooser": "chooser",
+                 "choose_alike": "first, second", "followed_orders": "chooser"},
+    "turns": {"split_option": "sizes, option, /", "join_option": "sizes, pair, /", "put_behind": "first, nexts",
+              "faced_context": "first, nexts, context", "put_in_turn": "first, *rest", "take_apart": "chooser, sizes"},
+    "turnaims": {"aim_behind": "first, nexts", "aims_in_turn": "first, *rest",
+                 "choosers_to": "first, nexts, context, option"},
 }
-STATIC = ["Aim.read", "Chooser.read", "Chooser.constant", "Chooser.first_good"]
+STATIC = ["Aim.read", "Chooser.read", "Chooser.constant", "Chooser.first_good", "Game.read"]
+PROPERTIES = ["Game.plans"]
 
 
 def files():
@@ -70,12 +87,17 @@ class TestInterface(unittest.TestCase):
                 self.assertIn(part, found, name)
                 self.assertEqual(ast.unparse(found[part].args), parameters, part)
 
-    def test_static_methods(self):
+    def test_static_methods_and_properties(self):
         for name in INTERFACE:
             for part, node in definitions(parsed(PACKAGE / f"{name}.py")).items():
                 if isinstance(node, ast.FunctionDef):
                     marks = [ast.unparse(mark) for mark in node.decorator_list]
                     self.assertEqual("staticmethod" in marks, part in STATIC, part)
+                    self.assertEqual("property" in marks, part in PROPERTIES, part)
+
+    def test_classes(self):
+        for name, part in [("aims", "Aim"), ("choosers", "Chooser"), ("games", "Node"), ("games", "Game")]:
+            self.assertIsInstance(definitions(parsed(PACKAGE / f"{name}.py")).get(part), ast.ClassDef)
 
 
 class TestFiles(unittest.TestCase):
@@ -144,7 +166,7 @@ class TestFiles(unittest.TestCase):
                       and isinstance(node.ctx, ast.Store)}
             bound |= {node.name for node in ast.walk(tree) if isinstance(node, ast.ExceptHandler)}
             bound |= set(top_names(tree))
-            self.assertFalse(bound & (BUILTINS | BARRED), path.name)
+            self.assertFalse(bound & BARRED, path.name)
             imported = {name.name for node in tree.body if isinstance(node, ast.ImportFrom) for name in node.names}
             self.assertFalse(bound & imported, path.name)
             for node in ast.walk(tree):
