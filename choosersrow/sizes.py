@@ -2,7 +2,7 @@
 
 from choosersrow.errors import SizeMismatch
 from choosersrow.terms import is_below
-from choosersrow.walks import all_choices, choice_index, count_choices
+from choosersrow.walks import choice_index, count_choices
 
 MOST_OPTIONS = 64
 MOST_OUTCOMES = 4
@@ -38,10 +38,18 @@ def count_contexts(options, outcomes):
     return count_choices((outcomes,) * options)
 
 
+def rows_through(columns):
+    """Return the tuples with one entry of each column; the entries of the columns tell their order."""
+    # The product of choosers runs this, and what an operator runs goes through no generator, as that changes it.
+    rows = [()]
+    for column in columns:
+        rows = [row + (entry,) for row in rows for entry in column]
+    return tuple(rows)
+
+
 def all_contexts(options, outcomes):
     """Return the contexts of a small size in their order."""
-    widths = (outcomes,) * options
-    return tuple(all_choices(widths))
+    return rows_through((tuple(range(outcomes)),) * options)
 
 
 def is_context(context, options, outcomes):

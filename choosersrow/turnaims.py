@@ -4,19 +4,15 @@ from choosersrow.aims import Aim
 from choosersrow.aimtables import table_aim
 from choosersrow.choosers import Chooser, answered_context
 from choosersrow.errors import NotGood
-from choosersrow.sizes import all_contexts, context_index, segments_of
+from choosersrow.sizes import all_contexts, context_index, rows_through, segments_of
 from choosersrow.terms import is_below
 from choosersrow.turns import context_segments, join_option, option_counts
 from choosersrow.turns import require_same_outcomes, require_small_behind, split_option
-from choosersrow.walks import all_choices
 
 
 def all_answers(nexts, segments):
     """Return the answers of the aims in their segments, in ascending order."""
-    goods = [aim.good(segment) for aim, segment in zip(nexts, segments)]
-    widths = tuple([len(good) for good in goods])
-    choices = list(all_choices(widths))
-    return [tuple([good[place] for good, place in zip(goods, choice)]) for choice in choices]
+    return rows_through([aim.good(segment) for aim, segment in zip(nexts, segments)])
 
 
 def good_behind(first, nexts, segments):

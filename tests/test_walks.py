@@ -1,5 +1,6 @@
 """Point 6: choices of widths."""
 
+import inspect
 import itertools
 
 from choosersrow.errors import OutOfRange
@@ -44,6 +45,9 @@ class TestChoices(Case):
             self.assertEqual(choice_index(HUGE, choice_at(HUGE, index)), index)
         self.assertEqual(choice_at(HUGE, 10 ** 21), (0, 0, 0, 1, 0))
         self.assertEqual(choice_index(HUGE, (0, 0, 1, 0, 5)), 3 * 10 ** 21 + 5)
+
+    def test_generator(self):
+        self.assertTrue(inspect.isgeneratorfunction(all_choices))
 
     def test_many_widths(self):
         widths = (2,) * 1000
