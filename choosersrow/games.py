@@ -91,13 +91,13 @@ def count_leaves(tree):
     return sum([count_leaves(below) for below in trees_behind(tree)])
 
 
-def tree_with_ends(tree, ends):
-    """Return the tree with other outcomes at its leaves."""
+def tree_with_leaves(tree, trees):
+    """Return the tree with other trees in the places of its leaves."""
     if tree[0] == "end":
-        return ("end", ends[0])
+        return trees[0]
     below = trees_behind(tree)
-    shares = segments_of([count_leaves(part) for part in below], ends)
-    return tree[:ITEMS_BEFORE] + tuple([tree_with_ends(part, share) for part, share in zip(below, shares)])
+    shares = segments_of([count_leaves(part) for part in below], trees)
+    return tree[:ITEMS_BEFORE] + tuple([tree_with_leaves(part, share) for part, share in zip(below, shares)])
 
 
 class Node:
@@ -145,7 +145,8 @@ class Game:
         """Return the game with other ends."""
         if not is_context(ends, len(self.ends), self.outcomes):
             raise OutOfRange("the ends are a tuple of one outcome for each leaf")
-        return Game(self.outcomes, tree_with_ends(self.tree, ends))
+        leaves = tuple([("end", outcome) for outcome in ends])
+        return Game(self.outcomes, tree_with_leaves(self.tree, leaves))
 
     def part(self, way):
         """Return the part of the game at the way."""

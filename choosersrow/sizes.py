@@ -33,6 +33,13 @@ def require_same_size(first, second):
         raise SizeMismatch("the sizes differ")
 
 
+def require_same_outcomes(first, others):
+    """Return None if all choosers, all aims or all games have the same number of outcomes."""
+    for other in others:
+        if other.outcomes != first.outcomes:
+            raise SizeMismatch("the numbers of outcomes differ")
+
+
 def count_contexts(options, outcomes):
     """Return the number of contexts of a size."""
     return count_choices((outcomes,) * options)

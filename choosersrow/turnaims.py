@@ -4,10 +4,9 @@ from choosersrow.aims import Aim
 from choosersrow.aimtables import table_aim
 from choosersrow.choosers import Chooser, answered_context
 from choosersrow.errors import NotGood
-from choosersrow.sizes import all_contexts, context_index, rows_through, segments_of
+from choosersrow.sizes import all_contexts, context_index, require_same_outcomes, rows_through, segments_of
 from choosersrow.terms import is_below
-from choosersrow.turns import context_segments, join_option, option_counts
-from choosersrow.turns import require_same_outcomes, require_small_behind, split_option
+from choosersrow.turns import context_segments, join_option, option_counts, require_small_behind, split_option
 
 
 def all_answers(nexts, segments):

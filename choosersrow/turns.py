@@ -2,7 +2,7 @@
 
 from choosersrow.choosers import Chooser, answered_context, row_behind, segment_answers
 from choosersrow.errors import InvalidContext, OutOfRange, SizeMismatch, TooLarge
-from choosersrow.sizes import all_contexts, is_context, is_small, segments_of
+from choosersrow.sizes import all_contexts, is_context, is_small, require_same_outcomes, segments_of
 from choosersrow.terms import is_below
 
 
@@ -31,13 +31,6 @@ def require_followed(first, nexts):
     if len(nexts) != first.options:
         raise SizeMismatch("there is one for each option of the first")
     require_same_outcomes(first, nexts)
-
-
-def require_same_outcomes(first, others):
-    """Return None if all choosers, or all aims, have the same number of outcomes."""
-    for other in others:
-        if other.outcomes != first.outcomes:
-            raise SizeMismatch("the numbers of outcomes differ")
 
 
 def require_small_behind(first, nexts):

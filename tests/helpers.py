@@ -13,7 +13,21 @@ def contexts(options, outcomes):
 
 
 class Case(unittest.TestCase):
-    """A test case that checks refusals closely."""
+    """A test case that asks each question twice and checks refusals closely."""
+
+    def asked(self, call, *args, **more):
+        """Return what the call returns, and assert that it returns the same when it is asked again."""
+        answer = call(*args, **more)
+        again = call(*args, **more)
+        self.assertEqual(answer, again)
+        self.assertIs(type(answer), type(again))
+        return answer
+
+    def listed(self, call, *args, **more):
+        """Return the list of what the generator yields, and assert that it yields the same once more."""
+        first = list(call(*args, **more))
+        self.assertEqual(list(call(*args, **more)), first)
+        return first
 
     def refused(self, kind, call, *args, **more):
         """Assert that the call raises this very class, twice in the same way, and return the error."""

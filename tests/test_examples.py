@@ -71,6 +71,60 @@ EXAMPLES = '''
 (1, 2)
 >>> choosers_to(best, (best, single), (1, 1, 1), 1)[1][0].row
 (0, 1, 0, 1)
+
+>>> from choosersrow.games import Game
+>>> from choosersrow.plays import contexts_under, faulty_nodes, play_out
+>>> game = Game.read("(game 2 (node 0 (best (0 1)) (node 1 (best (1 0)) (end 1) (end 0)) (end 1)))")
+>>> play_out(game, (0, 0))
+((0, 0), 1)
+>>> contexts_under(game, (0, 0))
+((1, 1), (1, 0))
+>>> faulty_nodes(game, (0, 0))
+(1,)
+
+>>> from choosersrow.choosers import Chooser
+>>> from choosersrow.games import Game
+>>> from choosersrow.optimal import choosers_for, optimal_plans, plan_by
+>>> game = Game.read("(game 2 (node 0 (best (0 1)) (node 1 (best (1 0)) (end 1) (end 0)) (end 1)))")
+>>> plan_by(game, (Chooser.constant(2, 2, 0), lambda context: context[0]))
+(0, 1)
+>>> list(optimal_plans(game))
+[(1, 1)]
+>>> [chooser.row for chooser in choosers_for(game, (1, 1))]
+[(0, 1, 0, 0), (0, 0, 1, 0)]
+
+>>> from choosersrow.grafting import join_plans, level_game
+>>> game = level_game(2, ((0, ("best", (0, 1)), 2), (1, ("any",), 2)), (0, 1, 1, 1))
+>>> game.text()
+'(game 2 (node 0 (best (0 1)) (node 1 (any) (end 0) (end 1)) (node 1 (any) (end 1) (end 1))))'
+>>> leaf = level_game(2, (), (0,))
+>>> node = level_game(2, ((0, ("any",), 2),), (0, 1))
+>>> join_plans(game, (1, 0, 1), (leaf, node, leaf, node), ((), (0,), (), (1,)))
+(1, 0, 0, 1, 1)
+
+>>> from choosersrow.counting import count_from, count_plans, mended_plan, plan_at, plan_to
+>>> from choosersrow.gamevalues import good_leaves, node_values
+>>> from choosersrow.grafting import level_game
+>>> game = level_game(2, ((0, ("best", (0, 1)), 2), (1, ("any",), 2)), (0, 1, 1, 1))
+>>> node_values(game)
+((1,), (0, 1), (1,))
+>>> good_leaves(game)
+(1, 2, 3)
+>>> count_plans(game)
+(0, 6)
+>>> count_from(game, (1,))
+(0, 4)
+>>> plan_at(game, 2)
+(1, 0, 0)
+>>> plan_to(game, outcome=1)
+(0, 1, 0)
+>>> mended_plan(game, (0, 0, 1))
+(0, 1, 1)
+
+>>> from choosersrow.barring import barring_ends
+>>> from choosersrow.games import Game
+>>> barring_ends(Game(2, ("node", 0, ("fixed",), ("end", 0), ("end", 0))))
+(1, 0)
 '''
 
 

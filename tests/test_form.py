@@ -41,6 +41,17 @@ INTERFACE = {
               "faced_context": "first, nexts, context", "put_in_turn": "first, *rest", "take_apart": "chooser, sizes"},
     "turnaims": {"aim_behind": "first, nexts", "aims_in_turn": "first, *rest",
                  "choosers_to": "first, nexts, context, option"},
+    "plays": {"require_plan": "game, plan", "play_out": "game, plan", "outcomes_under": "game, plan",
+              "contexts_under": "game, plan", "faulty_nodes": "game, plan", "is_optimal": "game, plan"},
+    "optimal": {"plan_by": "game, choosers", "choosers_for": "game, plan", "optimal_plans": "game"},
+    "grafting": {"graft_games": "game, games", "join_plans": "game, plan, games, plans",
+                 "cut_plan": "game, plan, way", "level_game": "outcomes, levels, ends"},
+    "gamevalues": {"node_values": "game", "game_value": "game", "good_leaves": "game", "optimal_options": "game",
+                   "optimal_outcomes": "game"},
+    "counting": {"count_plans": "game", "count_from": "game, prefix", "plan_at": "game, index",
+                 "plan_index": "game, plan", "plans_from": "game, *, start=0, most=64",
+                 "plan_to": "game, *, outcome", "mended_plan": "game, plan"},
+    "barring": {"unmet_nodes": "game", "barring_ends": "game"},
 }
 STATIC = ["Aim.read", "Chooser.read", "Chooser.constant", "Chooser.first_good", "Game.read"]
 PROPERTIES = ["Game.plans"]
