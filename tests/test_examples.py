@@ -125,6 +125,60 @@ EXAMPLES = '''
 >>> from choosersrow.games import Game
 >>> barring_ends(Game(2, ("node", 0, ("fixed",), ("end", 0), ("end", 0))))
 (1, 0)
+
+>>> from choosersrow.composing import composed_aim, flatten_game, parting_ends
+>>> from choosersrow.games import Game
+>>> game = Game.read("(game 2 (node 5 (best (0 1)) (end 1) (node 1 (best (1 0)) (end 0) (end 1))))")
+>>> composed_aim(game).good((0, 1, 1))
+(1, 2)
+>>> composed_aim(game).good((1, 0, 1))
+(0,)
+>>> parting_ends(game, Game.read("(game 2 (node 0 (best (0 1)) (end 0) (end 0) (end 0)))"))
+(0, 0, 1)
+>>> flatten_game(game).nodes[0].player
+5
+
+>>> from choosersrow.games import Game
+>>> from choosersrow.shortening import node_orders, shorten_game
+>>> game = Game.read("(game 2 (node 0 (best (0 1)) (end 0) (node 1 (best (2 5)) (end 1) (end 0)) (node 2 (any) (end 1))))")
+>>> node_orders(game)
+((0, 1), (0, 1), (0, 0))
+>>> shorten_game(game).text()
+'(game 2 (node 0 (best (0 1)) (end 0) (end 1) (end 0) (end 1)))'
+
+>>> from choosersrow.duels import duel_winner, is_winning, node_sides, threshold_duel, winning_plan
+>>> from choosersrow.games import Game
+>>> game = Game.read("(game 2 (node 0 (best (0 1)) (end 0) (node 1 (best (1 0)) (end 1) (end 1))))")
+>>> node_sides(game)
+(1, 0)
+>>> duel_winner(game)
+1
+>>> winning_plan(game)
+(1, None)
+>>> is_winning(game, (None, 0), outcome=1)
+False
+>>> other = Game.read("(game 3 (node 0 (best (0 1 2)) (end 1) (node 1 (best (9 4 3)) (end 2) (end 1))))")
+>>> threshold_duel(other, (3, 4, 8), least=5).text()
+'(game 2 (node 0 (best (0 1)) (end 0) (node 1 (best (1 0)) (end 1) (end 0))))'
+
+>>> from choosersrow.certificates import certified_outcome, least_certificate, pivot_leaves
+>>> from choosersrow.games import Game
+>>> game = Game.read("(game 2 (node 0 (best (0 1)) (end 0) (node 1 (best (1 0)) (end 1) (end 1))))")
+>>> certified_outcome(game, (0, 1))
+>>> certified_outcome(game, (1, 2))
+1
+>>> least_certificate(game)
+(1, 2)
+>>> pivot_leaves(game)
+(1, 2)
+
+>>> from choosersrow.rows import Row
+>>> row = Row((5,), (1, 2))
+>>> row.start(6)
+(5, 1, 2, 1, 2, 1)
+>>> other = row.after(2).lead((1,))
+>>> (other.head, other.cycle)
+((), (1, 2))
 '''
 
 

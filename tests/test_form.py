@@ -52,6 +52,15 @@ INTERFACE = {
                  "plan_index": "game, plan", "plans_from": "game, *, start=0, most=64",
                  "plan_to": "game, *, outcome", "mended_plan": "game, plan"},
     "barring": {"unmet_nodes": "game", "barring_ends": "game"},
+    "composing": {"composed_aim": "game", "composed_chooser": "game, choosers", "parting_ends": "game, other",
+                  "flatten_game": "game"},
+    "shortening": {"node_orders": "game", "shorten_game": "game"},
+    "duels": {"node_sides": "game", "duel_winner": "game", "winning_plan": "game",
+              "is_winning": "game, plan, *, outcome", "threshold_duel": "game, ranks, *, least"},
+    "certificates": {"certified_outcome": "game, leaves", "least_certificate": "game", "pivot_leaves": "game"},
+    "rows": {"Row.__init__": "self, head, cycle=(0,)", "Row.__getitem__": "self, at", "Row.__iter__": "self",
+             "Row.start": "self, length", "Row.least": "self", "Row.after": "self, count",
+             "Row.lead": "self, entries", "same_rows": "first, second"},
 }
 STATIC = ["Aim.read", "Chooser.read", "Chooser.constant", "Chooser.first_good", "Game.read"]
 PROPERTIES = ["Game.plans"]
@@ -107,7 +116,8 @@ class TestInterface(unittest.TestCase):
                     self.assertEqual("property" in marks, part in PROPERTIES, part)
 
     def test_classes(self):
-        for name, part in [("aims", "Aim"), ("choosers", "Chooser"), ("games", "Node"), ("games", "Game")]:
+        for name, part in [("aims", "Aim"), ("choosers", "Chooser"), ("games", "Node"), ("games", "Game"),
+                           ("rows", "Row")]:
             self.assertIsInstance(definitions(parsed(PACKAGE / f"{name}.py")).get(part), ast.ClassDef)
 
 

@@ -132,7 +132,8 @@ class TestOperators(unittest.TestCase):
         walk.run()
         self.assertEqual(walk.faults, [])
         for key in [("choosers", "Chooser", "__mul__"), ("choosers", "", "row_behind"), ("sizes", "", "all_contexts"),
-                    ("choosers", "Chooser", "__init__"), ("games", "Game", "plans"), ("aims", "", "wrong_rows")]:
+                    ("choosers", "Chooser", "__init__"), ("games", "Game", "plans"), ("aims", "", "wrong_rows"),
+                    ("rows", "Row", "__getitem__")]:
             self.assertIn(key, walk.reached)
 
     def test_the_walk_sees_faults(self):
