@@ -72,7 +72,7 @@ def cut_plan(game, plan, way):
 
 def level_game(outcomes, levels, ends):
     """Return the game in levels with the ends."""
-    widths = tuple([options for _, _, options in levels])
+    widths = tuple([level[2] for level in levels])
     if not all([width >= 1 for width in widths]) or count_choices(widths) != len(ends):
         raise OutOfRange("each level has an option, and there is one end for each way")
     trees = [("end", outcome) for outcome in ends]
