@@ -10,39 +10,45 @@ PLAYERS = 8
 ITEMS_BEFORE = 3
 
 
-def has_tree_form(tree, outcomes, level):
-    """Return whether a tree below so many nodes is not wrong itself, whatever its items are."""
-    if not isinstance(tree, tuple) or len(tree) == 0:
+def has_form(part, word, outcomes):
+    """Return whether an end, or what begins with the word and lets a player choose, is not wrong itself."""
+    if not isinstance(part, tuple) or len(part) == 0:
         return False
-    if tree[0] == "end":
-        return len(tree) == 2
-    if tree[0] != "node" or level >= Game.MOST_LEVELS:
-        return False
-    return is_small(len(tree) - ITEMS_BEFORE, outcomes)
+    if part[0] == "end":
+        return len(part) == 2
+    return part[0] == word and is_small(len(part) - ITEMS_BEFORE, outcomes)
 
 
 def checked_aims(tree, outcomes, path, level):
     """Return the aims of the nodes of a tree at the path and below so many nodes, in the order of the nodes."""
-    if not has_tree_form(tree, outcomes, level):
+    if not has_form(tree, "node", outcomes) or (tree[0] == "node" and level >= Game.MOST_LEVELS):
         raise InvalidGame(path)
-    if tree[0] == "end":
-        if not is_below(tree[1], outcomes):
-            raise InvalidGame(path + (1,))
+    aim = checked_aim(tree, outcomes, path)
+    if aim is None:
         return []
-    if not is_below(tree[1], PLAYERS):
-        raise InvalidGame(path + (1,))
-    aims = [node_aim(tree, outcomes, path)]
+    aims = [aim]
     for place in range(ITEMS_BEFORE, len(tree)):
         aims.extend(checked_aims(tree[place], outcomes, path + (place,), level + 1))
     return aims
 
 
-def node_aim(tree, outcomes, path):
-    """Return the aim of the node at the path."""
+def checked_aim(tree, outcomes, path):
+    """Return the aim of a node or a choosing stand at the path, or None for an end; the rest is not looked at."""
+    if tree[0] == "end":
+        if not is_below(tree[1], outcomes):
+            raise InvalidGame(path + (1,))
+        return None
+    if not is_below(tree[1], PLAYERS):
+        raise InvalidGame(path + (1,))
+    return placed_aim(tree[2], len(tree) - ITEMS_BEFORE, outcomes, path + (2,))
+
+
+def placed_aim(term, options, outcomes, path):
+    """Return the aim whose term is at the path."""
     try:
-        return Aim(tree[2], len(tree) - ITEMS_BEFORE, outcomes)
+        return Aim(term, options, outcomes)
     except InvalidAim as error:
-        raise InvalidGame(path + (2,) + error.path) from error
+        raise InvalidGame(path + error.path) from error
 
 
 def trees_behind(tree):

@@ -4,18 +4,33 @@ from choosersrow.errors import InvalidPlan
 from choosersrow.terms import is_below
 
 
+def require_beginning(widths, entries):
+    """Return None if the tuple has numbers below the first widths, in order."""
+    for index, entry in enumerate(entries):
+        if index >= len(widths) or not is_below(entry, widths[index]):
+            raise InvalidPlan(index)
+
+
+def require_whole(widths, entries):
+    """Return None if the tuple has one number below each width, in order."""
+    require_beginning(widths, entries)
+    if len(entries) < len(widths):
+        raise InvalidPlan(len(entries))
+
+
+def option_numbers(game):
+    """Return the numbers of options of the nodes, in order."""
+    return tuple([node.aim.options for node in game.nodes])
+
+
 def require_prefix(game, prefix):
     """Return None if the tuple has options of the first nodes, in order."""
-    for index, option in enumerate(prefix):
-        if index >= len(game.nodes) or not is_below(option, game.nodes[index].aim.options):
-            raise InvalidPlan(index)
+    require_beginning(option_numbers(game), prefix)
 
 
 def require_plan(game, plan):
     """Return None if the tuple is a plan of the game."""
-    require_prefix(game, plan)
-    if len(plan) < len(game.nodes):
-        raise InvalidPlan(len(plan))
+    require_whole(option_numbers(game), plan)
 
 
 def root_of(game):

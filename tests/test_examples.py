@@ -179,6 +179,35 @@ False
 >>> other = row.after(2).lead((1,))
 >>> (other.head, other.cycle)
 ((), (1, 2))
+
+>>> from choosersrow.queries import Query, query_tail
+>>> query = Query(("look", 1, ("tell", 0), ("look", 0, ("tell", 1), ("tell", 0))), (2,), 2)
+>>> query_tail(query, 0).term
+('look', 0, ('tell', 0), ('tell', 1))
+
+>>> from choosersrow.queries import Query
+>>> from choosersrow.settling import settle_query
+>>> query = Query(("look", 1, ("tell", 0), ("look", 0, ("tell", 1), ("tell", 0))), (2,), 2)
+>>> settle_query(query).term
+('look', 0, ('look', 1, ('tell', 0), ('tell', 1)), ('tell', 0))
+
+>>> from choosersrow.tracing import trace_query
+>>> trace_query(lambda row: row[row[0] + 1], (2,), 2).term
+('look', 0, ('look', 1, ('tell', 0), ('tell', 1)), ('look', 2, ('tell', 0), ('tell', 1)))
+
+>>> from choosersrow.queries import Query
+>>> from choosersrow.rowgames import choose_row
+>>> query = Query(("look", 1, ("tell", 0), ("look", 0, ("tell", 1), ("tell", 0))), (2,), 2)
+>>> choose_row(query, (lambda context: 0, lambda context: context[1]), 5)
+(0, 1, 0, 1, 0)
+
+>>> from choosersrow.quantified import every_row, find_row
+>>> every_row(lambda row: int(find_row(lambda other: int(other[0] == row[0]), (2,)) is not None), (2,))
+True
+
+>>> from choosersrow.loosegames import LooseGame, round_way
+>>> round_way(LooseGame.read("(loose 2 ((stand 0 (any) 1 2) (end 1) (stand 3 (any) 1 0 2)))"))
+(1, 1)
 '''
 
 

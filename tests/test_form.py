@@ -58,11 +58,27 @@ INTERFACE = {
     "duels": {"node_sides": "game", "duel_winner": "game", "winning_plan": "game",
               "is_winning": "game, plan, *, outcome", "threshold_duel": "game, ranks, *, least"},
     "certificates": {"certified_outcome": "game, leaves", "least_certificate": "game", "pivot_leaves": "game"},
+    "queries": {"Query.__init__": "self, term, widths, outcomes", "Query.__call__": "self, row",
+                "Query.__invert__": "self", "Query.__and__": "self, other", "Query.__or__": "self, other",
+                "Query.__xor__": "self, other", "Query.text": "self", "Query.read": "text",
+                "looked_places": "query, row", "fix_place": "query, place, option", "query_tail": "query, option",
+                "join_queries": "first, second, table, outcomes"},
+    "settling": {"settle_query": "query", "needed_places": "query", "query_reach": "query",
+                 "least_row": "query, outcome", "parting_row": "first, second", "count_heads": "query",
+                 "head_at": "query, outcome, index", "head_index": "query, head"},
+    "tracing": {"trace_query": "function, widths, outcomes"},
+    "rowgames": {"row_game": "query, aims", "choose_row": "query, choosers, length", "row_by": "query, choosers",
+                 "outcome_by": "query, choosers", "best_row": "query, ranks"},
+    "quantified": {"quantified_truth": "query, words", "find_row": "function, widths",
+                   "every_row": "function, widths"},
+    "loosegames": {"LooseGame.__init__": "self, outcomes, stands", "LooseGame.text": "self", "LooseGame.read": "text",
+                   "round_way": "loose", "way_lengths": "loose"},
     "rows": {"Row.__init__": "self, head, cycle=(0,)", "Row.__getitem__": "self, at", "Row.__iter__": "self",
              "Row.start": "self, length", "Row.least": "self", "Row.after": "self, count",
              "Row.lead": "self, entries", "same_rows": "first, second"},
 }
-STATIC = ["Aim.read", "Chooser.read", "Chooser.constant", "Chooser.first_good", "Game.read"]
+STATIC = ["Aim.read", "Chooser.read", "Chooser.constant", "Chooser.first_good", "Game.read", "Query.read",
+          "LooseGame.read"]
 PROPERTIES = ["Game.plans"]
 
 
@@ -117,7 +133,7 @@ class TestInterface(unittest.TestCase):
 
     def test_classes(self):
         for name, part in [("aims", "Aim"), ("choosers", "Chooser"), ("games", "Node"), ("games", "Game"),
-                           ("rows", "Row")]:
+                           ("rows", "Row"), ("queries", "Query"), ("loosegames", "LooseGame")]:
             self.assertIsInstance(definitions(parsed(PACKAGE / f"{name}.py")).get(part), ast.ClassDef)
 
 

@@ -133,7 +133,8 @@ class TestOperators(unittest.TestCase):
         self.assertEqual(walk.faults, [])
         for key in [("choosers", "Chooser", "__mul__"), ("choosers", "", "row_behind"), ("sizes", "", "all_contexts"),
                     ("choosers", "Chooser", "__init__"), ("games", "Game", "plans"), ("aims", "", "wrong_rows"),
-                    ("rows", "Row", "__getitem__")]:
+                    ("rows", "Row", "__getitem__"), ("queries", "Query", "__xor__"), ("queries", "", "wrong_query"),
+                    ("tracing", "SeenRow", "__getitem__"), ("tracing", "PlaceAsked", "__init__")]:
             self.assertIn(key, walk.reached)
 
     def test_the_walk_sees_faults(self):
