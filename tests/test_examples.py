@@ -208,6 +208,34 @@ True
 >>> from choosersrow.loosegames import LooseGame, round_way
 >>> round_way(LooseGame.read("(loose 2 ((stand 0 (any) 1 2) (end 1) (stand 3 (any) 1 0 2)))"))
 (1, 1)
+
+>>> from choosersrow.loosegames import LooseGame
+>>> from choosersrow.loosevalues import stand_plans, stand_values
+>>> loose = LooseGame.read("(loose 2 ((stand 0 (unlike 0) 1 1) (stand 0 (any) 2 3) (end 0) (end 1)))")
+>>> stand_values(loose)
+((0, 1), (0, 1), (0,), (1,))
+>>> stand_plans(loose)
+()
+
+>>> from choosersrow.tablegames import TableGame, rest_plays
+>>> rest_plays(TableGame(2, ((0, 1), (1, 0)), (("best", (0, 1)), ("fixed",))))
+((0, 1),)
+
+>>> from choosersrow.desk import Desk
+>>> desk = Desk(2)
+>>> desk.put("high", "aim", ("best", (0, 1)))
+>>> desk.run(("put", "low", "tree", ("node", 0, ("aim", "high"), ("end", 0), ("end", 1))), ("rename", "high", "top"))
+>>> desk.term_of("low")
+('node', 0, ('aim', 'top'), ('end', 0), ('end', 1))
+>>> desk.worked_term("low")
+('node', 0, ('best', (0, 1)), ('end', 0), ('end', 1))
+>>> (desk.names, desk.steps, desk.using_names("top"))
+(('low', 'top'), 2, ('low',))
+
+>>> from choosersrow.desk import Desk
+>>> from choosersrow.deskreports import report_lines
+>>> report_lines(Desk.read("(desk 2 ((a aim (any)) (b tree (node 0 (aim a) (end 0) (end 1))) (c tree (tree d))))"))
+('a            aim      1 ready', 'b            tree     4 value 0 1', 'c            tree     1 open')
 '''
 
 

@@ -9,8 +9,8 @@ PACKAGE = Path(__file__).resolve().parent.parent / "choosersrow"
 # The builtins that may be used.
 BUILTINS = set("""len range enumerate zip min max sum abs sorted reversed int str bool bytes list tuple dict set
     isinstance ord repr any all divmod pow iter next super ValueError KeyError TypeError NotImplemented""".split())
-METHODS = set("""append clear copy count endswith extend find get index insert items join keys pop remove replace
-    reverse setdefault sort split startswith strip update values bit_length""".split())
+METHODS = set("""append clear copy count endswith extend find get index insert items join keys ljust pop remove
+    replace reverse rjust setdefault sort split startswith strip update values bit_length""".split())
 # The names that nothing may be given.
 BARRED = set(dir(builtins)) | set("""register mro elements law version_info typing enum gc os sys law importlib
     attrgetter methodcaller""".split())
@@ -73,13 +73,31 @@ INTERFACE = {
                    "every_row": "function, widths"},
     "loosegames": {"LooseGame.__init__": "self, outcomes, stands", "LooseGame.text": "self", "LooseGame.read": "text",
                    "round_way": "loose", "way_lengths": "loose"},
+    "loosevalues": {"stand_values": "loose", "require_stand_plan": "loose, plan", "is_stand_optimal": "loose, plan",
+                    "stand_plans": "loose", "stand_ends": "loose"},
+    "unfolding": {"unfold_game": "loose", "unfolded_plan": "loose, plan", "cut_game": "loose, *, length, outcome",
+                  "fold_game": "game"},
+    "tablegames": {"TableGame.__init__": "self, outcomes, table, aims", "TableGame.text": "self",
+                   "TableGame.read": "text", "outcome_of": "tablegame, play", "faced_by": "tablegame, play, player",
+                   "leaving_players": "tablegame, play", "rest_plays": "tablegame"},
+    "plantables": {"plan_table": "game", "play_of": "game, plan", "plan_of": "game, play",
+                   "in_turn_game": "tablegame"},
+    "desk": {"Desk.__init__": "self, outcomes", "Desk.put": "self, name, kind, term", "Desk.drop": "self, name",
+             "Desk.rename": "self, old, new", "Desk.run": "self, *edits", "Desk.undo": "self", "Desk.redo": "self",
+             "Desk.keep": "self, limit", "Desk.names": "self", "Desk.steps": "self", "Desk.undone": "self",
+             "Desk.limit": "self", "Desk.limit.setter": "self, value", "Desk.__contains__": "self, x",
+             "Desk.kind_of": "self, name", "Desk.term_of": "self, name", "Desk.worked_term": "self, name",
+             "Desk.make_game": "self, name", "Desk.make_aim": "self, name, options",
+             "Desk.needed_names": "self, name", "Desk.using_names": "self, name", "Desk.text": "self",
+             "Desk.read": "text"},
+    "deskreports": {"report_lines": "desk"},
     "rows": {"Row.__init__": "self, head, cycle=(0,)", "Row.__getitem__": "self, at", "Row.__iter__": "self",
              "Row.start": "self, length", "Row.least": "self", "Row.after": "self, count",
              "Row.lead": "self, entries", "same_rows": "first, second"},
 }
 STATIC = ["Aim.read", "Chooser.read", "Chooser.constant", "Chooser.first_good", "Game.read", "Query.read",
-          "LooseGame.read"]
-PROPERTIES = ["Game.plans"]
+          "LooseGame.read", "TableGame.read", "Desk.read"]
+PROPERTIES = ["Game.plans", "Desk.names", "Desk.steps", "Desk.undone", "Desk.limit"]
 
 
 def files():
@@ -90,8 +108,13 @@ def parsed(path):
     return ast.parse(path.read_text("ascii"))
 
 
+def marks_of(node):
+    """Return the decorators of a function."""
+    return [ast.unparse(mark) for mark in node.decorator_list]
+
+
 def definitions(tree):
-    """Return a dict of the functions and methods that a file defines."""
+    """Return a dict of the functions and methods that a file defines; setters have names of their own."""
     found = {}
     for node in tree.body:
         if isinstance(node, ast.FunctionDef):
@@ -100,7 +123,8 @@ def definitions(tree):
             found[node.name] = node
             for part in node.body:
                 if isinstance(part, ast.FunctionDef):
-                    found[f"{node.name}.{part.name}"] = part
+                    setter = ".setter" if f"{part.name}.setter" in marks_of(part) else ""
+                    found[f"{node.name}.{part.name}{setter}"] = part
     return found
 
 
@@ -127,13 +151,14 @@ class TestInterface(unittest.TestCase):
         for name in INTERFACE:
             for part, node in definitions(parsed(PACKAGE / f"{name}.py")).items():
                 if isinstance(node, ast.FunctionDef):
-                    marks = [ast.unparse(mark) for mark in node.decorator_list]
+                    marks = marks_of(node)
                     self.assertEqual("staticmethod" in marks, part in STATIC, part)
                     self.assertEqual("property" in marks, part in PROPERTIES, part)
 
     def test_classes(self):
         for name, part in [("aims", "Aim"), ("choosers", "Chooser"), ("games", "Node"), ("games", "Game"),
-                           ("rows", "Row"), ("queries", "Query"), ("loosegames", "LooseGame")]:
+                           ("rows", "Row"), ("queries", "Query"), ("loosegames", "LooseGame"),
+                           ("tablegames", "TableGame"), ("desk", "Desk")]:
             self.assertIsInstance(definitions(parsed(PACKAGE / f"{name}.py")).get(part), ast.ClassDef)
 
 

@@ -7,7 +7,7 @@ handed or holds, and goes through no generator. A call is followed by the name t
 import ast
 import unittest
 
-from tests.test_form import BUILTINS, files, parsed
+from tests.test_form import BUILTINS, definitions, files, parsed
 
 FREE = ("__init__", "__call__", "__iter__", "__enter__", "__exit__")
 CHANGING = ("append", "clear", "extend", "insert", "pop", "remove", "reverse", "setdefault", "sort", "update", "add",
@@ -20,13 +20,10 @@ def functions():
     """Return a dict of all functions and methods of the package, under their file, class and name."""
     found = {}
     for path in files():
-        for node in parsed(path).body:
+        for name, node in definitions(parsed(path)).items():
             if isinstance(node, ast.FunctionDef):
-                found[(path.stem, "", node.name)] = node
-            if isinstance(node, ast.ClassDef):
-                for part in node.body:
-                    if isinstance(part, ast.FunctionDef):
-                        found[(path.stem, node.name, part.name)] = part
+                home, _, own = name.partition(".") if "." in name else ("", "", name)
+                found[(path.stem, home, own)] = node
     return found
 
 
@@ -134,7 +131,8 @@ class TestOperators(unittest.TestCase):
         for key in [("choosers", "Chooser", "__mul__"), ("choosers", "", "row_behind"), ("sizes", "", "all_contexts"),
                     ("choosers", "Chooser", "__init__"), ("games", "Game", "plans"), ("aims", "", "wrong_rows"),
                     ("rows", "Row", "__getitem__"), ("queries", "Query", "__xor__"), ("queries", "", "wrong_query"),
-                    ("tracing", "SeenRow", "__getitem__"), ("tracing", "PlaceAsked", "__init__")]:
+                    ("tracing", "SeenRow", "__getitem__"), ("tracing", "PlaceAsked", "__init__"),
+                    ("desk", "Desk", "__contains__"), ("desk", "Desk", "names"), ("desk", "Desk", "limit")]:
             self.assertIn(key, walk.reached)
 
     def test_the_walk_sees_faults(self):
