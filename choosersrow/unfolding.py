@@ -2,7 +2,7 @@
 
 from choosersrow.errors import OutOfRange, TooLarge
 from choosersrow.games import Game, placed_trees, trees_behind
-from choosersrow.loosegames import LooseGame, require_end, targets_of, way_lengths
+from choosersrow.loosegames import LooseGame, targets_of, way_lengths
 from choosersrow.loosevalues import require_stand_plan
 from choosersrow.terms import is_below
 
@@ -55,7 +55,6 @@ def unfold_game(loose):
 
 def unfolded_plan(loose, plan):
     """Return the plan of the unfolded game that has at each node the entry of the stand plan."""
-    require_end(loose)
     require_stand_plan(loose, plan)
     require_unfolded(loose)
     return entries_from(loose, plan, 0)

@@ -99,6 +99,9 @@ class TestPutting(DeskCase):
         for depth in (0, 1, 19, 20):
             desk.put("a", "tree", nested(depth))
             self.assertEqual(desk.term_of("a"), nested(depth))
+        # The empty tuple is one deep, as any tuple without a tuple in it.
+        desk.put("a", "tree", nested(19, ()))
+        self.assertEqual(desk.term_of("a"), nested(19, ()))
         for depth in (21, 22, 30):
             self.fails(desk, TooLarge, desk.put, "a", "tree", nested(depth))
             self.fails(desk, TooLarge, desk.put, "b", "tree", (0, nested(depth - 1)))

@@ -129,6 +129,8 @@ class TestWorkedTerms(DeskCase):
             else:
                 self.fails(desk, TooLarge, desk.worked_term, "a")
             self.assertEqual(depth_of(desk.worked_term("b")), 38 + last)
+        desk = desk_with(a=nested(19, ("aim", "b")), b=nested(19, ("aim", "c")), c=nested(19, ("aim", "d")), d=nested(2, ()))
+        self.assertEqual(depth_of(desk.worked_term("a")), 60)
         desk = desk_with(a=("x", nested(18, ("aim", "b")), nested(3)), b=nested(20))
         self.assertEqual(depth_of(desk.worked_term("a")), 39)
 

@@ -139,6 +139,10 @@ class TestTracing(Case):
             trace_query(lambda row: 1 // row[0], (2,), 2)
         self.refused(OutOfRange, trace_query, Query(("look", 0, ZERO, ONE), (2,), 2), (3,), 2)
 
+    def test_places_that_rows_are_not_asked_for(self):
+        for place in (-1, 100, 10 ** 20):
+            self.refused(OutOfRange, trace_query, lambda row: row[place], (2,), 2)
+
     def test_rows_have_no_end(self):
         with self.assertRaises(TypeError):
             trace_query(lambda row: int(1 in row), (2,), 2)
